@@ -1,6 +1,7 @@
 package tests
 
 import (
+	"maps"
 	"math"
 	"math/big"
 	"slices"
@@ -68,4 +69,15 @@ func words(alphabet string, most int) []string {
 		}
 	}
 	return list
+}
+
+// checkReading checks that a text is read exactly if it is that of a value, which is then the result. It tries other texts, too.
+func checkReading[T any](t *testing.T, read func(s string) (T, bool), values map[string]T, same func(a, b T) bool, others []string) {
+	t.Helper()
+	for _, text := range slices.AppendSeq(others, maps.Keys(values)) {
+		want, wantOK := values[text]
+		if got, ok := read(text); ok != wantOK || !same(got, want) {
+			t.Errorf("%q: read %v, %v, want %v, %v", text, got, ok, want, wantOK)
+		}
+	}
 }

@@ -58,7 +58,6 @@ func TestReadVoicesInvalid(t *testing.T) {
 	}
 }
 
-// A text is read exactly if it is the text of a valid list, which is then the result.
 func TestReadVoicesOfAllShortTexts(t *testing.T) {
 	lists := map[string][]impl.Voice{}
 	for members := 1; members <= 3; members++ {
@@ -66,17 +65,7 @@ func TestReadVoicesOfAllShortTexts(t *testing.T) {
 			lists[textOf(list)] = list
 		}
 	}
-	for text, want := range lists {
-		if got, ok := impl.ReadVoices(text); !ok || !sameVoices(got, want) {
-			t.Errorf("ReadVoices of %q: got %v, %v, want %v", text, got, ok, want)
-		}
-	}
-	for _, s := range words("+-012, ", 5) {
-		want, wantOK := lists[s]
-		if got, ok := impl.ReadVoices(s); ok != wantOK || !sameVoices(got, want) {
-			t.Errorf("ReadVoices of %q: got %v, %v, want %v, %v", s, got, ok, want, wantOK)
-		}
-	}
+	checkReading(t, impl.ReadVoices, lists, sameVoices, words("+-012, ", 5))
 }
 
 func TestSilenceMember(t *testing.T) {
