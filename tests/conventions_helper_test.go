@@ -3,7 +3,9 @@ package tests
 import (
 	"fmt"
 	"reflect"
+	"runtime"
 	"testing"
+	"time"
 
 	"loop.example/g01095/impl"
 )
@@ -153,6 +155,20 @@ func contents(v reflect.Value) string {
 		return text + "]"
 	}
 	return fmt.Sprint(v)
+}
+
+// checkNothingRuns checks that no goroutine that calls have started goes on after them.
+func checkNothingRuns(t *testing.T, run func()) {
+	t.Helper()
+	before := runtime.NumGoroutine()
+	run()
+	for range 100 {
+		if runtime.NumGoroutine() <= before {
+			return
+		}
+		time.Sleep(10 * time.Millisecond)
+	}
+	t.Errorf("%d goroutines run after the calls, %d before", runtime.NumGoroutine(), before)
 }
 
 func TestConventionsSeeChangedArguments(t *testing.T) {

@@ -3,11 +3,9 @@ package tests
 import (
 	"math"
 	"math/rand"
-	"runtime"
 	"slices"
 	"strings"
 	"testing"
-	"time"
 
 	"loop.example/g01095/impl"
 )
@@ -89,20 +87,14 @@ func TestSubstitutesAreTheSameEachTime(t *testing.T) {
 }
 
 func TestChapter4LeavesNothingRunning(t *testing.T) {
-	before := runtime.NumGoroutine()
-	for _, p := range append(irregularPools(), pool("7/1"), pool("3/2;0,1,2=3..3"), impl.Pool{}) {
-		panels, _ := impl.PanelsOf(p)
-		for _, list := range append(panels, nil, slices.Repeat([]int64{1}, len(panels))) {
-			for _, c := range poolCalls(p, list, 0) {
-				c.run()
+	checkNothingRuns(t, func() {
+		for _, p := range append(irregularPools(), pool("7/1"), pool("3/2;0,1,2=3..3"), impl.Pool{}) {
+			panels, _ := impl.PanelsOf(p)
+			for _, list := range append(panels, nil, slices.Repeat([]int64{1}, len(panels))) {
+				for _, c := range poolCalls(p, list, 0) {
+					c.run()
+				}
 			}
 		}
-	}
-	for range 100 {
-		if runtime.NumGoroutine() <= before {
-			return
-		}
-		time.Sleep(10 * time.Millisecond)
-	}
-	t.Errorf("%d goroutines run after the calls, %d before", runtime.NumGoroutine(), before)
+	})
 }
