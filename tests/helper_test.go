@@ -34,7 +34,7 @@ func expect[T comparable](t *testing.T, what string, got T, ok bool, want T, wan
 }
 
 // expectList is expect for lists.
-func expectList(t *testing.T, what string, got []int64, ok bool, want []int64, wantOK bool) {
+func expectList[T comparable](t *testing.T, what string, got []T, ok bool, want []T, wantOK bool) {
 	t.Helper()
 	if !slices.Equal(got, want) || ok != wantOK {
 		t.Errorf("%s: got %v, %v, want %v, %v", what, got, ok, want, wantOK)
