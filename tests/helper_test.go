@@ -1,6 +1,7 @@
 package tests
 
 import (
+	"iter"
 	"maps"
 	"math"
 	"math/big"
@@ -69,6 +70,43 @@ func words(alphabet string, most int) []string {
 		}
 	}
 	return list
+}
+
+// nearTexts goes through the texts that differ from a given one in few bytes: one of its bytes is left out, or has one of some
+// others before it or in its place; only its beginning or its end is there; or its end stands before its beginning.
+func nearTexts(text, others string) iter.Seq[string] {
+	return func(yield func(near string) bool) {
+		for i := range len(text) + 1 {
+			head, tail := text[:i], text[i:]
+			list := []string{head, tail, tail + head}
+			for k := range len(others) {
+				list = append(list, head+others[k:k+1]+tail)
+				if tail != "" {
+					list = append(list, head+others[k:k+1]+tail[1:])
+				}
+			}
+			if tail != "" {
+				list = append(list, head+tail[1:])
+			}
+			for _, near := range list {
+				if !yield(near) {
+					return
+				}
+			}
+		}
+	}
+}
+
+// checkRead checks that a text is read exactly if it is that of a value, which is then the result.
+func checkRead[T any](t *testing.T, text string, isText bool, value func(text string) T, read func(s string) (T, bool), same func(a, b T) bool) {
+	t.Helper()
+	var want T
+	if isText {
+		want = value(text)
+	}
+	if got, ok := read(text); ok != isText || !same(got, want) {
+		t.Errorf("%q: read %v, %v, want %v, %v", text, got, ok, want, isText)
+	}
 }
 
 // checkReading checks that a text is read exactly if it is that of a value, which is then the result. It tries other texts, too.

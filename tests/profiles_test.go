@@ -124,13 +124,7 @@ func isTextOfAProfile(text string) bool {
 
 func checkReadProfile(t *testing.T, text string) {
 	t.Helper()
-	var want impl.Profile
-	isText := isTextOfAProfile(text)
-	if isText {
-		want = profile(text)
-	}
-	got, ok := impl.ReadProfile(text)
-	expectProfile(t, fmt.Sprintf("ReadProfile of %q", text), got, ok, want, isText)
+	checkRead(t, text, isTextOfAProfile(text), profile, impl.ReadProfile, sameProfile)
 }
 
 func TestReadProfileOfAllShortTexts(t *testing.T) {
@@ -143,18 +137,11 @@ func TestReadProfileOfAllShortTexts(t *testing.T) {
 	}
 }
 
-// Texts are nearly those of profiles if one byte is left out, doubled or another one.
+// Texts are nearly those of profiles if one byte is left out, put in or another one.
 func TestReadProfileOfNearTexts(t *testing.T) {
 	for _, p := range slices.Concat(smallProfiles(2, 2, 1), smallProfiles(3, 1, 1), []impl.Profile{profile("4*abc 3*bca 2*cab"), profile("1000*fedcba 10*abcdef"), profile(strings.Repeat("1*ba ", impl.MaxMembers))}) {
-		text := profileText(p)
-		for i := range text {
-			checkReadProfile(t, text[:i])
-			checkReadProfile(t, text[i:])
-			checkReadProfile(t, text[:i]+text[i+1:])
-			for _, b := range "`abcdefgA019*\n \r\x00-+" {
-				checkReadProfile(t, text[:i]+string(b)+text[i:])
-				checkReadProfile(t, text[:i]+string(b)+text[i+1:])
-			}
+		for text := range nearTexts(profileText(p), "`abcdefgA019*\n \r\x00-+") {
+			checkReadProfile(t, text)
 		}
 	}
 }

@@ -126,18 +126,8 @@ func TestReadBothOfNearTexts(t *testing.T) {
 		if !checkReadBoth(t, text) {
 			t.Errorf("%q is no text", text)
 		}
-		for i := range len(text) + 1 {
-			for _, char := range []byte("+-~| \n\r\t\x000129abzA;:\x80\xff") {
-				checkReadBoth(t, text[:i]+string([]byte{char})+text[i:])
-				if i < len(text) {
-					checkReadBoth(t, text[:i]+string([]byte{char})+text[i+1:])
-				}
-			}
-			if i < len(text) {
-				checkReadBoth(t, text[:i]+text[i+1:])
-			}
-			checkReadBoth(t, text[:i])
-			checkReadBoth(t, text[i:]+text[:i])
+		for near := range nearTexts(text, "+-~| \n\r\t\x000129abzA;:\x80\xff") {
+			checkReadBoth(t, near)
 		}
 	}
 }
